@@ -35,15 +35,21 @@ func TestShapeOfZeroValues(t *testing.T) {
 
 var extremes = []int64{0, 1, -1, 7, -7, 1<<31 - 1, 1 << 31, 1<<32 - 1, 1 << 32, -1 << 32, 1 << 62, math.MaxInt64 - 1, math.MaxInt64, math.MinInt64, math.MinInt64 + 1}
 
+// extremeMatrix returns a matrix of extremes.
+func extremeMatrix(rows, cols int) ints {
+	l := wide(rows, cols)
+	for i := range l {
+		for j := range l[i] {
+			l[i][j] = extremes[(i*cols+j)%len(extremes)]
+		}
+	}
+	return l
+}
+
 // P3.1
 func TestFromInts(t *testing.T) {
 	shapes(func(rows, cols int) {
-		l := wide(rows, cols)
-		for i := range l {
-			for j := range l[i] {
-				l[i][j] = extremes[(i*cols+j)%len(extremes)]
-			}
-		}
+		l := extremeMatrix(rows, cols)
 		got, ok := matrix.FromInts(l)
 		expect(t, "FromInts", got, ok, valuesOfInts(l))
 	})
@@ -56,12 +62,7 @@ func TestFromInts(t *testing.T) {
 // P3.1
 func TestToInts(t *testing.T) {
 	shapes(func(rows, cols int) {
-		l := wide(rows, cols)
-		for i := range l {
-			for j := range l[i] {
-				l[i][j] = extremes[(i*cols+j)%len(extremes)]
-			}
-		}
+		l := extremeMatrix(rows, cols)
 		if got, ok := matrix.ToInts(of(l)); !ok || !slices.EqualFunc(got, l, slices.Equal) {
 			t.Errorf("ToInts of %v = %v, %v", l, got, ok)
 		}
